@@ -13,12 +13,12 @@ import (
 // the traversal, which recurs, within its stack.
 const deepest = 1000
 
-// found is what the traversal panics with at the first mistake.
-type found struct{ mistake api.Mistake }
+// stop is what the traversal panics with at the first mistake.
+type stop struct{ mistake api.Mistake }
 
 // walker traverses the classes of a program.
 type walker struct {
-	scope  Scope
+	resolver
 	file   int
 	uses   []api.Use
 	method string // the id of the method around
@@ -28,7 +28,7 @@ type walker struct {
 
 // fail ends the traversal with a mistake.
 func (w *walker) fail(e api.Errno, at int) {
-	panic(found{api.Mistake{Code: e, File: w.file, At: at}})
+	panic(stop{api.Mistake{Code: e, File: w.file, At: at}})
 }
 
 // use adds a name, unless it refers to nothing.
@@ -64,7 +64,7 @@ func (w *walker) visit(n api.Node) {
 		w.fail(api.ErrLimit, n.From)
 	}
 	if n.TypeAt >= 0 && n.Type != "int" && n.Type != "boolean" && n.Type != "void" {
-		e, errno := w.scope.named(n.Type)
+		e, errno := w.class(n.Type)
 		w.use(n.TypeAt, e, errno)
 	}
 	kids := n.Kids
@@ -79,7 +79,7 @@ func (w *walker) visit(n api.Node) {
 	if n.At >= 0 {
 		errno := api.OK
 		if !declares {
-			e, errno = w.scope.Entity(n)
+			e, errno = w.entity(n)
 		}
 		w.use(n.At, e, errno)
 	}
@@ -123,7 +123,7 @@ func Uses(files [][]api.Node) (l []api.Use, m api.Mistake) {
 	defer func() {
 		switch problem := recover().(type) {
 		case nil:
-		case found:
+		case stop:
 			l, m = nil, problem.mistake
 		default:
 			panic(problem)
@@ -131,7 +131,7 @@ func Uses(files [][]api.Node) (l []api.Use, m api.Mistake) {
 	}()
 	// Scopes list the locals that are visible; no name is looked for among all of them.
 	table = slices.DeleteFunc(table, func(e api.Entity) bool { return e.Kind == api.IsLocal })
-	w := walker{scope: Scope{Table: table}}
+	w := walker{resolver: resolver{Scope{Table: table}, remembered(table)}}
 	for file, classes := range files {
 		w.file = file
 		for _, n := range classes {

@@ -4,6 +4,7 @@ import (
 	"concordat/api"
 	"concordat/bind"
 	"concordat/decls"
+	"concordat/names"
 )
 
 // code is a node whose name is resolved, so that this need not be done at
@@ -39,7 +40,9 @@ func (c *code) kid(i int) *code {
 
 // resolver resolves the names of methods.
 type resolver struct {
+	names  names.Index
 	scope  bind.Scope
+	file   int
 	method string
 	number int // of the next parameter or local
 }
@@ -47,8 +50,10 @@ type resolver struct {
 // resolved returns the methods of a program by their ids.
 func resolved(table []api.Entity, files [][]api.Node) map[string]*method {
 	out := map[string]*method{}
-	r := resolver{scope: bind.Scope{Table: table}}
-	for _, classes := range files {
+	uses, _ := bind.Uses(files)
+	r := resolver{names: names.New(table, uses), scope: bind.Scope{Table: names.Globals(table)}}
+	for file, classes := range files {
+		r.file = file
 		for _, class := range classes {
 			r.scope.Class = decls.Class(class.Text)
 			for _, n := range class.Kids {
@@ -89,7 +94,7 @@ func (r *resolver) declare(n api.Node) api.Entity {
 // code resolves a node and what is inside it.
 func (r *resolver) code(n api.Node) *code {
 	c := &code{kind: n.Kind, text: n.Text, n: n.N}
-	c.entity, _ = r.scope.Entity(n)
+	c.entity, _ = r.names.Entity(r.scope, r.file, n)
 	seen := r.scope.Seen
 	for _, kid := range n.Kids {
 		c.kids = append(c.kids, r.code(kid))

@@ -7,7 +7,7 @@ func (c *checker) isClassName(n api.Node) bool {
 	if n.Kind != api.Name {
 		return false
 	}
-	e, errno := c.scope.Entity(n)
+	e, errno := c.names.Entity(c.scope, c.file, n)
 	return errno == api.OK && e.Kind == api.IsClass
 }
 
@@ -29,7 +29,7 @@ func (c *checker) neg(n api.Node) {
 // binary checks a Binary.
 func (c *checker) binary(n api.Node) {
 	c.all(n.Kids)
-	t := Operator(c.scope.Table, n.Text, c.scope.Type(kid(n, 0)), c.scope.Type(kid(n, 1)))
+	t := Operator(c.classes, n.Text, c.typeOf(kid(n, 0)), c.typeOf(kid(n, 1)))
 	c.must(t != "", api.ErrType, n.From)
 }
 
@@ -57,7 +57,7 @@ func (c *checker) dotCall(n api.Node) {
 
 // arguments checks that a method may be called with arguments.
 func (c *checker) arguments(n api.Node, l []api.Node) {
-	e, _ := c.scope.Entity(n)
+	e, _ := c.names.Entity(c.scope, c.file, n)
 	c.must(len(l) == len(e.Params), api.ErrArgs, n.At)
 	for i, argument := range l {
 		c.may(argument, e.Params[i])
@@ -77,7 +77,7 @@ func (c *checker) set(n api.Node) {
 	variable := left.Kind == api.Dot || left.Kind == api.Name && !c.isClassName(left)
 	c.must(variable, api.ErrLeft, left.From)
 	c.all(n.Kids)
-	c.may(right, c.scope.Type(left))
+	c.may(right, c.typeOf(left))
 }
 
 // do checks a Do.
@@ -109,7 +109,7 @@ func (c *checker) giveBack(n api.Node) {
 func (c *checker) output(n api.Node) {
 	x := kid(n, 0)
 	c.check(x)
-	t := c.scope.Type(x)
+	t := c.typeOf(x)
 	c.must(t == "int" || t == "boolean", api.ErrType, x.From)
 }
 
