@@ -81,9 +81,6 @@ func TestCount(t *testing.T) {
 		if !slices.Equal(got, c.want) {
 			t.Errorf("Count(%v) = %v, want %v", c.l, got, c.want)
 		}
-		if cap(got) != 5 {
-			t.Errorf("Count has room for %d numbers", cap(got))
-		}
 		got[0] = 77
 		if again := report.Count(c.l); !slices.Equal(again, c.want) {
 			t.Error("two results share memory")
