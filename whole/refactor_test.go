@@ -11,6 +11,7 @@ import (
 	"concordat/check"
 	"concordat/decls"
 	"concordat/family"
+	"concordat/inline"
 	"concordat/kin"
 	"concordat/match"
 	"concordat/merge"
@@ -294,5 +295,42 @@ func TestMerges(t *testing.T) {
 	})
 	if kinds[api.Merged] < 5 || kinds[api.Conflicts] < 2 {
 		t.Errorf("%v", kinds)
+	}
+}
+
+// P37.3: after inlining a program does the same in no more steps.
+func TestInlined(t *testing.T) {
+	done := 0
+	each(t, 107, 150, func(r *rand.Rand, _ []api.File, p program) {
+		m := &maker{Rand: r, p: p}
+		x := &method{variable: variable{"q", m.kind(), true}, params: []variable{{name: "p0", kind: "int"}, {name: "p1", kind: m.kind()}}}
+		m.class, m.method, m.seen = p.classes[r.Intn(len(p.classes))], x, x.params
+		x.body = "    return " + m.expression(x.kind, 3) + ";\n"
+		m.class.methods = append(m.class.methods, x)
+		main := p.classes[0].methods[slices.IndexFunc(p.classes[0].methods, func(x *method) bool { return x.name == "main" })]
+		call, kind, first := m.class.name+".q(j, k)", x.params[1].kind, "null"
+		switch kind {
+		case "int":
+			first = "4"
+		case "boolean":
+			first = "true"
+		}
+		main.body = "    int j = 3;\n    " + kind + " k = " + first + ";\n    print(" + call + " == " + call + ");\n" + main.body
+		l := p.tree()
+		got, e := inline.Do(l, m.class.name+".q()")
+		if e != api.OK {
+			return
+		}
+		done++
+		before, after := ran(l), ran(got)
+		if before.E == api.ErrDepth || before.E == api.ErrFuel {
+			return
+		}
+		if !run.Same(before, after) || after.Steps > before.Steps {
+			t.Errorf("%v: %v, inlined %v: %v", l, before, got, after)
+		}
+	})
+	if done < 30 {
+		t.Errorf("only %d methods were inlined", done)
 	}
 }
